@@ -121,7 +121,7 @@ func wantEncode(t *testing.T, list []api.Instr, e api.Errno, at int) {
 	}
 }
 
-// wantDecode: Decode(image) answers as the document asks; want is the kernel, if there is no error.
+// wantDecode: Decode(image) answers as the document asks; want is the kernel, if there is no error. What Decode refuses, Joins refuses too (P5).
 func wantDecode(t *testing.T, image string, want []api.Instr, e api.Errno, at int) {
 	t.Helper()
 	l, gotE, gotAt := loom.Decode(image)
@@ -133,6 +133,9 @@ func wantDecode(t *testing.T, image string, want []api.Instr, e api.Errno, at in
 	}
 	if e == noError && !reflect.DeepEqual(l, want) {
 		t.Errorf("Decode(%.40q) = %v, want %v", image, l, want)
+	}
+	if e != noError {
+		wantJoinsRefused(t, image, e, at)
 	}
 }
 

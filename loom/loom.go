@@ -4,6 +4,7 @@ package loom
 import (
 	"loom/api"
 	"loom/code"
+	"loom/ways"
 )
 
 // Machine runs a kernel.
@@ -16,7 +17,13 @@ func Encode(kernel []api.Instr) (string, api.Errno, int) { return code.Encode(ke
 func Decode(image string) ([]api.Instr, api.Errno, int) { return code.Decode(image) }
 
 // Joins tells where threads that part come together again (P5).
-func Joins(image string) ([]int, api.Errno, int) { return nil, api.OK, 0 }
+func Joins(image string) ([]int, api.Errno, int) {
+	list, e, at := code.Decode(image)
+	if e != api.OK {
+		return nil, e, at
+	}
+	return ways.Joins(list), api.OK, 0
+}
 
 // New makes a machine (P6).
 func New(image string, threads int, first int, memory []int) (*Machine, api.Errno, int) {
